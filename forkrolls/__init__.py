@@ -1,0 +1,1 @@
+"""Forkrolls: tables with branches that answer as plain stores do."""

@@ -1,0 +1,1 @@
+"""Names, places, states, and the tables that a state is read as."""

@@ -1,0 +1,86 @@
+"""The form of the package: the interface stands where DOC.md lists it, and the files keep to LANGUAGE.md."""
+
+import ast
+import builtins
+import importlib
+import inspect
+import pathlib
+import unittest
+
+ROOT = pathlib.Path(__file__).resolve().parent.parent / "forkrolls"
+FILES = sorted(path for path in ROOT.rglob("*") if path.is_file() and path.suffix != ".pyc")
+
+INTERFACE = {
+    "forkrolls.cells.names": {"is_name": "(thing)", "is_value": "(thing)", "is_id": "(thing)"},
+    "forkrolls.cells.places": {
+        "is_place": "(thing)", "table_of": "(place)", "may_stand": "(place, thing)", "is_writes": "(thing)"},
+    "forkrolls.cells.states": {
+        "is_state": "(thing)", "done": "(state, writes)", "value_at": "(state, place)",
+        "of_tables": "(state, tables)"},
+}
+
+BUILTINS = {"len", "range", "enumerate", "zip", "min", "max", "sum", "abs", "sorted", "reversed", "int", "str", "bool",
+            "list", "tuple", "dict", "set", "isinstance", "ord", "repr", "any", "all", "divmod", "ValueError",
+            "LookupError"}
+NODES = (ast.AsyncFunctionDef, ast.AsyncFor, ast.AsyncWith, ast.Await, ast.Import, ast.Div, ast.Set)
+
+
+class Interface(unittest.TestCase):
+    def test_it_stands_where_it_is_listed(self):
+        for module, listed in INTERFACE.items():
+            for name, signature in listed.items():
+                function = getattr(importlib.import_module(module), name)
+                self.assertEqual(function.__module__, module)
+                self.assertEqual(str(inspect.signature(function)), signature, name)
+
+
+class Form(unittest.TestCase):
+    def test_nothing_but_files_of_python(self):
+        self.assertLessEqual(len(FILES), 100)
+        for path in FILES:
+            self.assertEqual(path.suffix, ".py", path)
+            self.assertTrue((path.parent / "__init__.py").is_file(), path)
+
+    def test_sizes_and_signs(self):
+        for path in FILES:
+            lines = path.read_bytes().decode("ascii").split("\n")
+            self.assertLess(len(lines), 400, path)
+            for line in lines:
+                self.assertTrue(len(line) <= 120 and (line == "" or line.isprintable()), (path, line))
+
+    def test_functions_are_small_and_what_stands_in_them_is_allowed(self):
+        for path in FILES:
+            for node in ast.walk(ast.parse(path.read_text())):
+                self.assertNotIsInstance(node, NODES, path)
+                if isinstance(node, ast.FunctionDef):
+                    self.assertLessEqual(node.end_lineno - node.lineno + 1, 40, (path, node.name))
+                    self.assertTrue(node.name.startswith("_") or ast.get_docstring(node), (path, node.name))
+
+    def test_imports_name_the_file_that_defines(self):
+        for path in FILES:
+            for node in ast.walk(ast.parse(path.read_text())):
+                if isinstance(node, ast.ImportFrom):
+                    self.assertTrue(node.module.startswith("forkrolls."), path)
+                    module = importlib.import_module(node.module)
+                    for part in node.names:
+                        self.assertIsNone(part.asname)
+                        found = getattr(module, part.name)
+                        self.assertEqual(getattr(found, "__module__", node.module), node.module, part.name)
+
+    def test_names(self):
+        for path in FILES:
+            tree = ast.parse(path.read_text())
+            bound = {node.arg for node in ast.walk(tree) if isinstance(node, ast.arg)}
+            bound |= {node.name for node in ast.walk(tree) if isinstance(node, (ast.FunctionDef, ast.ClassDef))}
+            bound |= {node.id for node in ast.walk(tree)
+                      if isinstance(node, ast.Name) and isinstance(node.ctx, ast.Store)}
+            self.assertEqual(sorted(bound & set(dir(builtins))), [], path)
+            brought = {part.name for node in ast.walk(tree) if isinstance(node, ast.ImportFrom) for part in node.names}
+            read = {node.id for node in ast.walk(tree) if isinstance(node, ast.Name)}
+            self.assertEqual(sorted(read - bound - brought - BUILTINS), [], path)
+            self.assertEqual(sorted(brought - read), [], path)
+            self.assertEqual(sorted(brought & bound), [], path)
+
+
+if __name__ == "__main__":
+    unittest.main()
