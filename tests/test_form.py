@@ -17,12 +17,24 @@ INTERFACE = {
     "forkrolls.cells.states": {
         "is_state": "(thing)", "done": "(state, writes)", "value_at": "(state, place)",
         "of_tables": "(state, tables)"},
+    "forkrolls.cells.rolls": {
+        "tables_of": "(state)", "columns_of": "(state, table)", "rows_of": "(state, table)",
+        "row_of": "(state, table, key)"},
+    "forkrolls.webs.webs": {"is_web": "(thing)", "knows_of": "(web, name)", "what_of": "(web, name)"},
+    "forkrolls.webs.lots": {
+        "is_lot": "(web, thing)", "whole_of": "(web)", "least_lot": "(web, names)", "tops_of": "(web, lot)",
+        "together": "(web, lots)", "common": "(web, lots)", "seen": "(web, tables)",
+        "lot_seen": "(web, lot, tables)"},
+    "forkrolls.webs.standing": {"standing": "(web, lot)", "stands": "(web, lot, name)"},
+    "forkrolls.webs.orders": {
+        "is_order": "(web, lot, thing)", "order_of": "(web, lot)", "many_orders": "(web, lot, *, most=400)",
+        "state_by": "(web, lot, order)"},
 }
 
 BUILTINS = {"len", "range", "enumerate", "zip", "min", "max", "sum", "abs", "sorted", "reversed", "int", "str", "bool",
             "list", "tuple", "dict", "set", "isinstance", "ord", "repr", "any", "all", "divmod", "ValueError",
             "LookupError"}
-NODES = (ast.AsyncFunctionDef, ast.AsyncFor, ast.AsyncWith, ast.Await, ast.Import, ast.Div, ast.Set)
+NODES = (ast.AsyncFunctionDef, ast.AsyncFor, ast.AsyncWith, ast.Await, ast.Import, ast.Div)
 
 
 class Interface(unittest.TestCase):
