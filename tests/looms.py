@@ -49,7 +49,8 @@ def named(name):
 NO_WEBS = [
     list(SMALL), SMALL[::-1], SMALL + SMALL[-1:], SMALL[1:] + SMALL[:1], (None,), ((),), ((ONE, (), TABLE, ()),),
     ((ONE, ()),), ([ONE, (), TABLE],), {ONE: TABLE}, (ONE,), (ONE, (), TABLE), ((ONE, [], TABLE),),
-    ((ONE, (), list(TABLE)),), ((ONE, None, TABLE),), ((ONE, (), None),), ((list(ONE), (), TABLE),), ((ONE, {}, TABLE),), ((ONE, (), {}),),
+    ((ONE, (), list(TABLE)),), ((ONE, None, TABLE),), ((ONE, (), None),), ((list(ONE), (), TABLE),),
+    ((ONE, {}, TABLE),), ((ONE, (), {}),),
     ((ONE, "", TABLE),), ((ONE, (), ()),), ((None, (), TABLE),), ((ONE, (), "writes"),),
     # Of names and what knows them:
     named(("key", 0, "main", 0)), named(("a", 0, "key", 0)), named(("a", 8, "main", 0)), named(("a", -1, "main", 0)),

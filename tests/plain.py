@@ -1,6 +1,5 @@
 """What DOC.md says, once more, as plainly as can be and with no thought of how long it takes."""
 
-import itertools
 import re
 
 ID_WORDS = ("column", "name", "kind", "else")
@@ -169,8 +168,14 @@ def order(deeds, members, thing):
 
 
 def orders(deeds, members):
-    """All orders, by trying each row of the deeds: of few deeds alone."""
-    return [row for row in itertools.permutations(writers(deeds, members)) if order(deeds, members, row)]
+    """All orders, one by one, as each beginning can go on: of few deeds alone."""
+    due = writers(deeds, members)
+    known = {each: [below for below in knows if below in due] for each, knows, _ in deeds}
+    found = [()]
+    for _ in due:
+        found = [row + (each,) for row in found for each in due
+                 if each not in row and all(below in row for below in known[each])]
+    return found
 
 
 def state_by(deeds, row):
@@ -179,3 +184,67 @@ def state_by(deeds, row):
     for each in row:
         cells = done(cells, parts[each][1])
     return cells
+
+
+def ends(deeds, members):
+    """The unlike states by all orders, each with the first order by which it comes: of few deeds alone."""
+    found = {}
+    for row in orders(deeds, members):
+        found.setdefault(state_by(deeds, row), row)
+    return found
+
+
+def written_at(deeds, members, where):
+    """What the standing deeds write at the place, by their names."""
+    due = writers(deeds, members)
+    return {each: dict(part[1])[where] for each, _, part in deeds if each in due and where in dict(part[1])}
+
+
+def lasts(deeds, members, where):
+    there = written_at(deeds, members, where)
+    known = {below for each, knows, _ in deeds if each in there for below in knows}
+    return tuple(sorted(each for each in there if each not in known))
+
+
+def reading(deeds, members, where):
+    there = written_at(deeds, members, where)
+    return tuple(sorted({there[each] for each in lasts(deeds, members, where)}, key=repr))
+
+
+def places(deeds, members):
+    due = writers(deeds, members)
+    return sorted({where for each, _, part in deeds if each in due for where, _ in part[1]})
+
+
+def clashes(deeds, members):
+    return tuple(where for where in places(deeds, members) if len(reading(deeds, members, where)) > 1)
+
+
+def why(deeds, members, where, thing):
+    """Whether the thing is such a paper: each word of point [12] in turn."""
+    if row_of(thing, word("clash"), lambda row: order(deeds, members, row), lambda row: order(deeds, members, row)):
+        return dict(state_by(deeds, thing[1])).get(where) != dict(state_by(deeds, thing[2])).get(where)
+    if not row_of(thing, word("agreed"), lambda part: part is None or fits(where, part), lambda part: True):
+        return False
+    there = written_at(deeds, members, where)
+    if thing[1] not in (there.values() if there else [None]):
+        return False
+    if not row_all(thing[2], lambda pair: row_of(pair, deed_name, deed_name)):
+        return False
+    due = sorted(each for each in there if there[each] != thing[1])
+    knows = {each: below for each, below, _ in deeds}
+    return [writer for writer, _ in thing[2]] == due and all(
+        by in there and writer in knows[by] for writer, by in thing[2])
+
+
+def way_by(deeds, members, row):
+    """Who comes last of those that write each clashing place, by the order."""
+    found = []
+    for where in clashes(deeds, members):
+        there = written_at(deeds, members, where)
+        found.append((where, [each for each in row if each in there][-1]))
+    return tuple(found)
+
+
+def ways(deeds, members):
+    return tuple(sorted({way_by(deeds, members, row) for row in orders(deeds, members)}))

@@ -29,6 +29,14 @@ INTERFACE = {
     "forkrolls.webs.orders": {
         "is_order": "(web, lot, thing)", "order_of": "(web, lot)", "many_orders": "(web, lot, *, most=400)",
         "state_by": "(web, lot, order)"},
+    "forkrolls.readings.lasts": {
+        "lasts": "(web, lot, place)", "reading": "(web, lot, place)", "clashes": "(web, lot)"},
+    "forkrolls.readings.papers": {
+        "why": "(web, lot, place)", "shows_why": "(web, lot, place, thing)", "order_to": "(web, lot, place, name)"},
+    "forkrolls.worlds.ways": {
+        "ways_of": "(web, lot, *, most=200)", "is_way": "(web, lot, thing)", "order_by": "(web, lot, way)"},
+    "forkrolls.worlds.worlds": {
+        "worlds_of": "(web, lot, *, most=200)", "shows_worlds": "(web, lot, thing, *, most=200)"},
 }
 
 BUILTINS = {"len", "range", "enumerate", "zip", "min", "max", "sum", "abs", "sorted", "reversed", "int", "str", "bool",

@@ -104,6 +104,17 @@ class Case(unittest.TestCase):
             self.assertEqual(repr((args, more)), handed, "what was handed in is changed")
         return caught.exception
 
+    def refuses_each(self, function, sound, *wrong, **more):
+        """Each argument wrong alone, and with all those behind it wrong, too: refused as the first of these is.
+
+        Of each of the first arguments wrong has its error, and things that are none.
+        """
+        worst = [things[0] for _, things in wrong] + [None] * (len(sound) - len(wrong))
+        for at, (error, things) in enumerate(wrong):
+            for thing in things:
+                self.refused(error, function, *sound[:at], thing, *sound[at + 1:], **more)
+                self.refused(error, function, *sound[:at], thing, *worst[at + 1:], **more)
+
     def lacks(self, error, name, function, *args):
         """Refused by an error that keeps just the name."""
         kept = self.refused(error, function, *args).name

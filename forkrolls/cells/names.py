@@ -1,6 +1,6 @@
 """Names, keys, values, hands, kinds and ids, and rows of names."""
 
-from forkrolls.errors import NoKey, NoName
+from forkrolls.errors import NoHand, NoKey, NoName
 
 MOST_LETTERS = 8
 MOST_KEY = 10 ** 9
@@ -85,3 +85,9 @@ def need_key(thing):
     """Refuse what is no key."""
     if not is_key(thing):
         raise NoKey("a key is a whole number from 0 to 10 ** 9")
+
+
+def need_hand(thing):
+    """Refuse what is no hand."""
+    if not is_hand(thing):
+        raise NoHand("a hand is a whole number from 0 to 7")

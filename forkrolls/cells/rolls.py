@@ -21,10 +21,13 @@ def rows_of(state, table):
     """Rising (key, pairs) of the rows of a table."""
     need_state(state)
     need_name(table)
-    cells = cells_of(state)
+    return tuple(rows_within(cells_of(state), table))
+
+
+def rows_within(cells, table):
+    """Rising (key, pairs) of the rows of a table, of what stands by its place."""
     columns = _columns(cells, table)
-    keys = _keys(cells, table)
-    return tuple([(key, _pairs(cells, table, key, columns)) for key in keys])
+    return [(key, _pairs(cells, table, key, columns)) for key in _keys(cells, table)]
 
 
 def row_of(state, table, key):

@@ -15,25 +15,22 @@ def is_order(web, lot, thing):
     """Whether thing is an order of the lot."""
     need_web(web)
     need_lot(web, lot)
-    return _is_order(web, lot, thing)
+    return comes_right(masks_of(writers_of(web, lot)), thing)
 
 
 def order_of(web, lot):
     """An order of the lot."""
     need_web(web)
     need_lot(web, lot)
-    # Whoever knows a deed knows more than it, so this comes behind it.
-    ranked = sorted([(len(knows), name) for name, knows, _ in _writers(web, lot)])
-    return tuple([name for _, name in ranked])
+    return tuple(ranked(writers_of(web, lot)))
 
 
 def many_orders(web, lot, *, most=MOST_ORDERS):
     """How many orders the lot has, at most so many."""
     need_web(web)
     need_lot(web, lot)
-    if not is_whole(most, 1, HIGHEST_MOST):
-        raise NoNumber("most is a whole number from 1 to 10 ** 4")
-    bits, behind = _masks(web, lot)
+    need_most(most)
+    bits, behind = masks_of(writers_of(web, lot))
     begun = {0: 1}
     for _ in bits:
         begun = _begun_further(begun, bits, behind, most)
@@ -44,24 +41,33 @@ def state_by(web, lot, order):
     """The state in which a plain store ends by an order of the lot."""
     need_web(web)
     need_lot(web, lot)
-    if not _is_order(web, lot, order):
+    writers = writers_of(web, lot)
+    if not comes_right(masks_of(writers), order):
         raise NoOrder("an order has all standing deeds with writes, each behind those that it knows")
-    writes = {name: what[1] for name, _, what in _writers(web, lot)}
-    cells = {}
-    for name in order:
-        put_in(cells, writes[name])
-    return state_of(cells)
+    return end_of(writers, order)
 
 
-def _writers(web, lot):
+def need_most(most):
+    """Refuse what can't be asked for at most."""
+    if not is_whole(most, 1, HIGHEST_MOST):
+        raise NoNumber("most is a whole number from 1 to 10 ** 4")
+
+
+def writers_of(web, lot):
     """The standing deeds with writes of what is surely a lot, as the web has them."""
     kept = {name: True for name in standing_names(web, lot)}
     return [deed for deed in web if deed[0] in kept and deed[2][0] == "writes"]
 
 
-def _masks(web, lot):
-    """A bit for each standing deed with writes, and the mask of those of them that it knows."""
-    writers = _writers(web, lot)
+def ranked(writers):
+    """The writers' names, each behind those of them that it knows."""
+    # Whoever knows a deed knows more than it.
+    ranks = sorted([(len(knows), name) for name, knows, _ in writers])
+    return [name for _, name in ranks]
+
+
+def masks_of(writers):
+    """A bit for each of the writers, and the mask of those of them that it knows."""
     bits = bits_of([name for name, _, _ in writers])
     behind = {}
     for name, knows, _ in writers:
@@ -69,8 +75,9 @@ def _masks(web, lot):
     return bits, behind
 
 
-def _is_order(web, lot, thing):
-    bits, behind = _masks(web, lot)
+def comes_right(masks, thing):
+    """Whether thing is an order of just the writers that have these masks."""
+    bits, behind = masks
     if not isinstance(thing, tuple) or len(thing) != len(bits):
         return False
     mask = 0
@@ -79,6 +86,15 @@ def _is_order(web, lot, thing):
             return False
         mask |= bits[name]
     return True
+
+
+def end_of(writers, order):
+    """The state in which a plain store ends by what is surely an order of the writers."""
+    writes = {name: what[1] for name, _, what in writers}
+    cells = {}
+    for name in order:
+        put_in(cells, writes[name])
+    return state_of(cells)
 
 
 def _may_come(mask, bit, behind):

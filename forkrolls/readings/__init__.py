@@ -1,0 +1,1 @@
+"""What is read at the places of a lot, and why."""
