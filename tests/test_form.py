@@ -37,6 +37,14 @@ INTERFACE = {
         "ways_of": "(web, lot, *, most=200)", "is_way": "(web, lot, thing)", "order_by": "(web, lot, way)"},
     "forkrolls.worlds.worlds": {
         "worlds_of": "(web, lot, *, most=200)", "shows_worlds": "(web, lot, thing, *, most=200)"},
+    "forkrolls.deeds.forms": {"is_deed": "(thing)"},
+    "forkrolls.deeds.making": {
+        "is_there": "(web, lot, place)", "made": "(web, lot, hand, branch, deed, *, number=None)"},
+    "forkrolls.asks.questions": {"is_question": "(thing)", "is_row": "(thing)", "tables_in": "(question)"},
+    "forkrolls.asks.answers": {"answer": "(state, question)"},
+    "forkrolls.asks.whence": {
+        "is_simple": "(thing)", "whence": "(state, question, row)", "shows_whence": "(state, question, row, thing)",
+        "only_rows": "(state, rows)", "behind": "(web, lot, table, key)"},
 }
 
 BUILTINS = {"len", "range", "enumerate", "zip", "min", "max", "sum", "abs", "sorted", "reversed", "int", "str", "bool",
@@ -75,6 +83,13 @@ class Form(unittest.TestCase):
                 if isinstance(node, ast.FunctionDef):
                     self.assertLessEqual(node.end_lineno - node.lineno + 1, 40, (path, node.name))
                     self.assertTrue(node.name.startswith("_") or ast.get_docstring(node), (path, node.name))
+
+    def test_keys_to_sort_by(self):
+        for path in FILES:
+            for node in ast.walk(ast.parse(path.read_text())):
+                if isinstance(node, ast.Call) and getattr(node.func, "id", "") in ("sorted", "min", "max"):
+                    keys = [each.value for each in node.keywords if each.arg == "key"]
+                    self.assertTrue(all(isinstance(each, ast.Lambda) for each in keys), (path, node.lineno))
 
     def test_imports_name_the_file_that_defines(self):
         for path in FILES:

@@ -70,7 +70,8 @@ class Why(Case):
     def test_agreed(self):
         for names, place, wanted in [
                 ([], CELL, ("agreed", None, ())), ([BASE], CELL, ("agreed", 0, ())),
-                ([BASE], TABLE, ("agreed", True, ())), ([BASE], ELSE, ("agreed", None, ())), ([BASE, ALIKE], ELSE, ("agreed", None, ())),
+                ([BASE], TABLE, ("agreed", True, ())), ([BASE], ELSE, ("agreed", None, ())),
+                ([BASE, ALIKE], ELSE, ("agreed", None, ())),
                 ([BASE, LEFT], CELL, ("agreed", 1, ((BASE, LEFT),))), ([BASE, LEFT], ROW, ("agreed", True, ())),
                 ([BASE, GONE], ROW, ("agreed", None, ((BASE, GONE),))),
                 ([BASE, LEFT, STRUCK], CELL, ("agreed", 0, ())),

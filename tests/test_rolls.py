@@ -6,7 +6,7 @@ from forkrolls.cells.rolls import columns_of, row_of, rows_of, tables_of
 from forkrolls.cells.states import done
 from forkrolls.errors import NoKey, NoName, NoState
 from tests import plain
-from tests.test_states import WRONG, made_state
+from tests.test_states import WRONG_STATES, made_state
 from tests.things import ANYTHING, Case, Chance
 
 TITLE, PAGES, NOTE, LOST = (0, "main", 0), (0, "main", 1), (7, "b", 10 ** 6), (1, "c", 0)
@@ -216,7 +216,7 @@ class Moves(Case):
 
 class Refused(Case):
     def test_no_state(self):
-        for thing in WRONG:
+        for thing in WRONG_STATES:
             self.refused(NoState, tables_of, thing)
             for name in ("books", "key", None):
                 self.refused(NoState, columns_of, thing, name)

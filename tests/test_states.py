@@ -14,7 +14,7 @@ TWO = tuple(sorted([(("table", "a"), True), (("table", "b"), True), (("row", "a"
 STATES = [(), ((("table", "a"), True),), ALL, TWO]
 NO_STATES = [thing for thing in NO_WRITES if thing not in ((), NO_WRITES[1], NO_WRITES[2])] + [
     ((("table", "a"), None),), ((("cell", "a", 0, IDENT), None),), TWO[::-1], TWO + TWO[-1:], (None,), ((),)]
-WRONG = [thing for thing in ANYTHING if not plain.state(thing)] + NO_STATES
+WRONG_STATES = [thing for thing in ANYTHING if not plain.state(thing)] + NO_STATES
 
 
 def made_state(chance, many, tables=("a", "b")):
@@ -113,7 +113,7 @@ class Done(Case):
         self.tells(None, value_at, state, ("row", "a", 400))
 
     def test_no_state(self):
-        for thing in WRONG:
+        for thing in WRONG_STATES:
             self.refused(NoState, done, thing, WRITES[0])
             self.refused(NoState, done, thing, ())
             self.refused(NoState, done, thing, None)
@@ -138,7 +138,7 @@ class ValueAt(Case):
         self.tells("key", value_at, TWO, ("cell", "b", 1, IDENT))
 
     def test_refused(self):
-        for thing in WRONG:
+        for thing in WRONG_STATES:
             self.refused(NoState, value_at, thing, ("table", "a"))
             self.refused(NoState, value_at, thing, "no place")
         for thing in NO_PLACES + [thing for thing in ANYTHING if not plain.place(thing)]:
@@ -154,7 +154,7 @@ class OfTables(Case):
         self.tells(TWO, of_tables, TWO, ("a", "b", "c"))
 
     def test_refused(self):
-        for thing in WRONG:
+        for thing in WRONG_STATES:
             self.refused(NoState, of_tables, thing, ("a",))
             self.refused(NoState, of_tables, thing, "a")
         wrong = [("b", "a"), ("a", "a"), ("a", "key"), ("a", 0), (0, "a"), ("a", None), ("a", ("b",)), ["a"], "a",

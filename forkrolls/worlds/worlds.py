@@ -45,8 +45,8 @@ def worlds_within(web, lot, most):
     clashed = clashing(web, lot)
     last = {place: {name: value for name, value in said} for place, said in all_last(writers).items()}
     ways = _unlike(last, ways_within(web, clashed, most))
-    agreed = _agreed_upon(last, clashed)
-    states = [_state_along(agreed, last, way) for way in ways]
+    first = {place: list(said.values())[0] for place, said in last.items()}
+    states = [_state_along(first, last, way) for way in ways]
     orders = orders_along(writers, clashed, ways)
     return tuple(sorted(zip(states, orders), key=lambda world: repr(world[0])))
 
@@ -59,14 +59,9 @@ def _unlike(last, ways):
     return list(found.values())
 
 
-def _agreed_upon(last, clashed):
-    """What is written at each place that doesn't clash."""
-    parted = {place: True for place, _ in clashed}
-    return {place: list(said.values())[0] for place, said in last.items() if place not in parted}
-
-
-def _state_along(agreed, last, way):
-    cells = {place: value for place, value in agreed.items()}
+def _state_along(first, last, way):
+    """The state in which the first of the lasts has its say but where the way names another."""
+    cells = {place: value for place, value in first.items()}
     for place, name in way:
         cells[place] = last[place][name]
     return state_of({place: value for place, value in cells.items() if value is not None})

@@ -1,0 +1,1 @@
+"""Deeds: how they are asked for, and what is made of them."""
