@@ -45,6 +45,16 @@ INTERFACE = {
     "forkrolls.asks.whence": {
         "is_simple": "(thing)", "whence": "(state, question, row)", "shows_whence": "(state, question, row, thing)",
         "only_rows": "(state, rows)", "behind": "(web, lot, table, key)"},
+    "forkrolls.asks.sure": {
+        "sure": "(web, lot, question, *, most=200)", "perhaps": "(web, lot, question, *, most=200)",
+        "order_with": "(web, lot, question, row, *, most=200)",
+        "order_without": "(web, lot, question, row, *, most=200)"},
+    "forkrolls.asks.rules": {
+        "kept_or_broken": "(web, lot, rule, *, most=200)", "shows_rule": "(web, lot, rule, thing, *, most=200)",
+        "kept_together": "(web, one, other, rule, *, most=200)"},
+    "forkrolls.merges.changes": {
+        "changes": "(web, one, other)", "root_of": "(web, name)", "touched": "(web, lot, within)"},
+    "forkrolls.merges.sides": {"sides": "(web, one, other)"},
 }
 
 BUILTINS = {"len", "range", "enumerate", "zip", "min", "max", "sum", "abs", "sorted", "reversed", "int", "str", "bool",

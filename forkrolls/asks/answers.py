@@ -16,9 +16,18 @@ def answer(state, question):
     """By text, the unlike rows that the question tells on the state."""
     need_state(state)
     need_question(question)
-    cells = cells_of(state)
+    return by_text(answer_on(cells_of(state), question))
+
+
+def by_text(rows):
+    """The rows in the order of what repr tells of them."""
+    return tuple(sorted(rows, key=lambda row: repr(row)))
+
+
+def answer_on(cells, question):
+    """The rows, as keys, that the question tells of what stands by its place."""
     rolls = {table: {row: () for _, row in roll_of(cells, table)} for table in tables_within(question)}
-    return tuple(sorted(told_by(rolls, question), key=lambda row: repr(row)))
+    return told_by(rolls, question)
 
 
 def roll_of(cells, table):

@@ -94,6 +94,11 @@ def behind(web, lot, table, key):
     need_lot(web, lot)
     need_name(table)
     need_key(key)
+    return behind_within(web, lot, table, key)
+
+
+def behind_within(web, lot, table, key):
+    """Who stands behind the row, of what surely are a web, its lot, a table's name and a key."""
     found = all_last(writers_of(web, lot))
     rows = [(place, tuple(names_of(last))) for place, last in found.items() if _is_of_row(place, table, key)]
     return tuple(sorted(rows))

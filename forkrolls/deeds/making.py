@@ -3,7 +3,7 @@
 from forkrolls.cells.names import MOST_NUMBER, is_whole, need_hand, need_name
 from forkrolls.cells.places import need_place
 from forkrolls.deeds.forms import need_deed
-from forkrolls.errors import Lacking, NoColumn, NoNumber, NoRow, NoTable, Taken, TooWide, Undone
+from forkrolls.errors import Lacking, NoColumn, NoNumber, NoRow, NoTable, Settled, Taken, TooWide, Undone
 from forkrolls.readings.lasts import readings_of
 from forkrolls.webs.lots import need_lot
 from forkrolls.webs.standing import standing_names
@@ -33,12 +33,21 @@ def made(web, lot, hand, branch, deed, *, number=None):
     need_hand(hand)
     need_name(branch)
     need_deed(deed)
-    table = deed[1]
-    name = (table, hand, branch, _number_of(web, (table, hand, branch), number))
-    what = _what_of(web, lot, name, deed)
-    if len([each for each in lot if each[0] == table]) >= MOST_DEEDS:
-        raise TooWide("the lot has sixty deeds of the table")
+    start = (deed[1], hand, branch)
+    return made_as(web, lot, (*start, _number_of(web, start, number)), deed, {})
+
+
+def made_as(web, lot, name, deed, settled):
+    """The deed of this name, of what is surely all as it should be; no undo of what is settled, as keys."""
+    what = _what_of(web, lot, name, deed, settled)
+    need_few(lot, deed[1])
     return (name, lot, what)
+
+
+def need_few(lot, table):
+    """Refuse a deed more where the lot has as many of the table as it may."""
+    if len([name for name in lot if name[0] == table]) >= MOST_DEEDS:
+        raise TooWide("the lot has sixty deeds of the table")
 
 
 def _number_of(web, start, number):
@@ -46,24 +55,31 @@ def _number_of(web, start, number):
     given = [name[3] for name, _, _ in web if name[:3] == start]
     if number is None:
         number = max(given, default=-1) + 1
-    if not is_whole(number, 0, MOST_NUMBER) or number in given:
-        raise NoNumber("the number of a deed is from 0 to 10 ** 6, and none that is given")
+    need_number(number, given)
     return number
 
 
-def _what_of(web, lot, name, deed):
+def need_number(number, given):
+    """Refuse what can't be the number of a deed, beside those given."""
+    if not is_whole(number, 0, MOST_NUMBER) or number in given:
+        raise NoNumber("the number of a deed is from 0 to 10 ** 6, and none that is given")
+
+
+def _what_of(web, lot, name, deed, settled):
     if deed[0] == "undo":
-        return ("strike", _standing_one(web, lot, deed[1:]))
+        return ("strike", _standing_one(web, lot, deed[1:], settled))
     read = readings_of(web, lot)
     _need_what_it_names(read, deed)
     _need_free(read, deed)
     return ("writes", tuple(sorted(_writes_of(read, name, deed))))
 
 
-def _standing_one(web, lot, name):
-    """The name, of a deed that stands in the lot."""
+def _standing_one(web, lot, name, settled):
+    """The name, of a deed that stands in the lot and isn't settled."""
     if name not in lot:
         raise Lacking(name)
+    if name in settled:
+        raise Settled(name)
     if name not in standing_names(web, lot):
         raise Undone(name)
     return name

@@ -31,6 +31,11 @@ def why(web, lot, place):
     need_web(web)
     need_lot(web, lot)
     need_place(place)
+    return why_within(web, lot, place)
+
+
+def why_within(web, lot, place):
+    """What shows it, of what surely are a web, its lot and a place."""
     last = last_at(web, lot, place)
     values = values_of(last)
     writers = writers_of(web, lot)

@@ -56,10 +56,10 @@ def least_lot(web, names):
     for name in names:
         if not is_deed_name(name) or name not in knows:
             raise Lacking(name)
-    return _put_together([knows[name] for name in names] + [names])
+    return put_together([knows[name] for name in names] + [names])
 
 
-def _put_together(rows):
+def put_together(rows):
     """Rising, all the names that any of the rows has."""
     found = {}
     for row in rows:
@@ -85,13 +85,18 @@ def together(web, lots):
     """The lot of all that any of the lots has."""
     need_web(web)
     need_lots(web, lots)
-    return _put_together(lots)
+    return put_together(lots)
 
 
 def common(web, lots):
     """The lot of what each of the lots has."""
     need_web(web)
     need_lots(web, lots)
+    return in_each(lots)
+
+
+def in_each(lots):
+    """Rising, the names that each of what surely are lots has."""
     many = {}
     for lot in lots:
         for name in lot:
@@ -103,6 +108,11 @@ def seen(web, tables):
     """The web of just the deeds of these tables, knows cut to these."""
     need_web(web)
     need_names(tables)
+    return seen_at(web, tables)
+
+
+def seen_at(web, tables):
+    """The web of just the deeds of these tables, of what is surely a web."""
     kept = {table: True for table in tables}
     return tuple([(name, _cut(knows, kept), what) for name, knows, what in web if name[0] in kept])
 

@@ -41,27 +41,33 @@ def _comes_to(writers, masks, thing, state):
 
 def worlds_within(web, lot, most):
     """The worlds of what is surely a lot; refused where there are more ways than most."""
-    writers = writers_of(web, lot)
-    clashed = clashing(web, lot)
-    last = {place: {name: value for name, value in said} for place, said in all_last(writers).items()}
-    ways = _unlike(last, ways_within(web, clashed, most))
-    first = {place: list(said.values())[0] for place, said in last.items()}
-    states = [_state_along(first, last, way) for way in ways]
-    orders = orders_along(writers, clashed, ways)
+    lasting, ways = ends_within(web, lot, [name[0] for name in lot], most)
+    states = [state_of(cells_along(lasting, way)) for way in ways]
+    orders = orders_along(writers_of(web, lot), clashing(web, lot), ways)
     return tuple(sorted(zip(states, orders), key=lambda world: repr(world[0])))
 
 
-def _unlike(last, ways):
-    """Of the ways by which the same is written everywhere one each."""
+def ends_within(web, lot, tables, most):
+    """What the lasts write at these tables' places, and ways to all unlike ends there, one to each.
+
+    Refused where the lot has more ways than most, whatever its tables.
+    """
+    kept = {table: True for table in tables}
+    ways = ways_within(web, clashing(web, lot), most)
+    lasting = {}
+    for place, said in all_last(writers_of(web, lot)).items():
+        if place[1] in kept:
+            lasting[place] = {name: value for name, value in said}
     found = {}
     for way in ways:
-        found.setdefault(tuple([last[place][name] for place, name in way]), way)
-    return list(found.values())
+        found.setdefault(tuple([lasting[place][name] for place, name in way if place in lasting]), way)
+    return lasting, list(found.values())
 
 
-def _state_along(first, last, way):
-    """The state in which the first of the lasts has its say but where the way names another."""
-    cells = {place: value for place, value in first.items()}
+def cells_along(lasting, way):
+    """What stands, by its place, where the way's names have their say, and else the first of the lasts."""
+    cells = {place: list(said.values())[0] for place, said in lasting.items()}
     for place, name in way:
-        cells[place] = last[place][name]
-    return state_of({place: value for place, value in cells.items() if value is not None})
+        if place in lasting:
+            cells[place] = lasting[place][name]
+    return {place: value for place, value in cells.items() if value is not None}

@@ -1,0 +1,1 @@
+"""What two lots do unlike, and what comes of them together."""
