@@ -55,7 +55,33 @@ INTERFACE = {
     "forkrolls.merges.changes": {
         "changes": "(web, one, other)", "root_of": "(web, name)", "touched": "(web, lot, within)"},
     "forkrolls.merges.sides": {"sides": "(web, one, other)"},
+    "forkrolls.remnants.remnants": {
+        "shaken": "(web, lots)", "remnant": "(web, lots)", "cut_lot": "(web, lot)"},
+    "forkrolls.words.texts": {
+        "place_text": "(place)", "read_place": "(text)", "deed_text": "(deed)", "read_deed": "(text)",
+        "name_text": "(name)", "read_name": "(text)", "question_text": "(question)", "read_question": "(text)",
+        "row_text": "(row)", "read_row": "(text)"},
 }
+CLASSES = {
+    ("forkrolls.rights.rights", "Rights"): {
+        "__init__": "(self)", "level": "(self, table, hand)", "used": "(self)", "use": "(self, hand, table)",
+        "grant": "(self, hand, table, other, level)", "granted": "(self, table)", "seen": "(self, hand)",
+        "need": "(self, web, lot, deed)", "view": "(self, hand, web, lot)", "__eq__": "(self, other)",
+        "__len__": "(self)"},
+    ("forkrolls.store.store", "Store"): {
+        "__init__": "(self)", "fork": "(self, hand, name, at)", "mark": "(self, hand, name, at)",
+        "do": "(self, hand, name, deed)", "pick": "(self, hand, name, at, deed)",
+        "merge": "(self, hand, name, at, *, strict=False)", "grant": "(self, hand, table, other, level)",
+        "share": "(self, hand, at, other)", "unshare": "(self, hand, at, other)", "drop": "(self, hand, at)",
+        "prune": "(self, hand)", "names": "(self, hand)", "tables": "(self, hand)", "level": "(self, hand, table)",
+        "view": "(self, hand, at)", "reading": "(self, hand, at, place)", "why": "(self, hand, at, place)",
+        "ask": "(self, hand, at, question, *, most=200)", "behind": "(self, hand, at, table, key)",
+        "many": "(self, rows)", "log": "(self)", "busy": "(self)", "__eq__": "(self, other)", "__len__": "(self)",
+        "__str__": "(self)"},
+    ("forkrolls.words.desk", "Desk"): {
+        "__init__": "(self)", "say": "(self, row)", "many": "(self, rows)", "log": "(self)", "busy": "(self)"},
+}
+DUNDERS = ("__init__", "__eq__", "__len__", "__str__")
 
 BUILTINS = {"len", "range", "enumerate", "zip", "min", "max", "sum", "abs", "sorted", "reversed", "int", "str", "bool",
             "list", "tuple", "dict", "set", "isinstance", "ord", "repr", "any", "all", "divmod", "ValueError",
@@ -72,7 +98,31 @@ class Interface(unittest.TestCase):
                 self.assertEqual(str(inspect.signature(function)), signature, name)
 
 
+    def test_classes_stand_where_they_are_listed(self):
+        for (module, name), listed in CLASSES.items():
+            found = getattr(importlib.import_module(module), name)
+            self.assertEqual(found.__module__, module)
+            for method, signature in listed.items():
+                self.assertIn(method, vars(found), name)
+                self.assertEqual(str(inspect.signature(vars(found)[method])), signature, method)
+
+
 class Form(unittest.TestCase):
+    def test_classes(self):
+        for path in FILES:
+            for node in ast.walk(ast.parse(path.read_text())):
+                if isinstance(node, ast.FunctionDef):
+                    self.assertEqual(node.decorator_list, [], (path, node.name))
+                    self.assertTrue(not node.name.startswith("__") or node.name in DUNDERS, (path, node.name))
+                if isinstance(node, ast.ClassDef):
+                    self.assertTrue(ast.get_docstring(node), (path, node.name))
+                    methods = {each.name for each in node.body if isinstance(each, ast.FunctionDef)}
+                    kept = {each.attr for each in ast.walk(node)
+                            if isinstance(each, ast.Attribute) and isinstance(each.ctx, ast.Store)}
+                    self.assertEqual(sorted(methods & kept), [], path)
+                if isinstance(node, ast.Try):
+                    self.assertEqual(node.handlers, [], path)
+
     def test_nothing_but_files_of_python(self):
         self.assertLessEqual(len(FILES), 100)
         for path in FILES:

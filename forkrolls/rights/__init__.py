@@ -1,0 +1,1 @@
+"""What each hand may see and do."""
