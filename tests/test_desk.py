@@ -3,9 +3,11 @@
 import unittest
 
 from forkrolls.errors import (
-    Clashes, Lacking, NoBranch, NoHand, NoNumber, NoRight, NoTable, NoText, RollError, Settled, Taken, TooWide, Undone)
+    Clashes, Lacking, NoBranch, NoHand, NoNumber, NoRight, NoTable, NoText, Settled, Taken, TooWide, Undone)
+from forkrolls.store.store import Store
 from forkrolls.words.desk import Desk
 from forkrolls.words.texts import name_text, place_text, question_text, row_text
+from tests import plain_words
 from tests.days import HANDS, Day
 from tests.plain_store import MAIN
 from tests.shops import QUESTIONS, X
@@ -144,6 +146,41 @@ class Says(Case):
         self.say(one, "read 0 0.main row a 1", ".")
 
 
+OTHERS = ["", "0", "1", "5", "8", "-1", "a", "mine", "key", "Z", "0.main", "1.mine", "5.x", "0.main.1", "a/0.main.3",
+          "do", "names", "prune", "-", "(roll a)", "table"]
+
+
+def begun_store():
+    """A store that the same was done to as to a desk that has begun."""
+    store = Store()
+    for row in BEGUN:
+        store.many((plain_words.desk(row),))
+    return store
+
+
+def spaced(texts):
+    return " ".join(texts) or "-"
+
+
+def answer_by(store, row):
+    """What a desk is to tell of a row that says this, or nothing."""
+    if row is None:
+        return ("NoText",)
+    word, *parts = row
+    try:
+        if word == "names":
+            return spaced([said(at[:2]) for at in store.names(*parts)])
+        if word == "tables":
+            return spaced(store.tables(*parts))
+        if word == "read":
+            return spaced([value_said(value) for value in store.reading(*parts)])
+        if word == "ask":
+            return " / ".join(spaced([row_text(told) for told in rows]) for rows in store.ask(*parts))
+        return written(word, store.many((row,))[0])
+    except (ValueError, LookupError) as error:
+        return (type(error).__name__, *([error.name] if hasattr(error, "name") else []))
+
+
 def value_said(value):
     if value is True or value is None:
         return "+" if value else "."
@@ -228,27 +265,25 @@ class Refusals(Case):
             "ask 8 0.main (roll a)", "ask 0 main (roll a)", "ask 0 0.main (roll a) 200", "say names 0", "log", "busy",
             "many", "level 0 a", "view 0 0.main", "why 0 0.main table a", "behind 0 0.main a 1", "len", "act 0", "-"])
 
+    def alike(self, text):
+        """The desk answers, or refuses, as a store does that the same was done to."""
+        desk, store = begun(), begun_store()
+        self.assertEqual(answer_of(desk, text), answer_by(store, plain_words.desk(text)), text)
+        self.assertEqual(desk.say("names 0"), spaced([said(at[:2]) for at in store.names(0)]))
+
     def test_each_row_with_a_word_out_one_more_another(self):
-        desk = begun()
-        desk.many(("do 1 mine put a 7 -",))
         for row in SOUND:
+            self.alike(row)
             words = row.split(" ")
             for at in range(len(words)):
-                for other in (words[:at] + words[at + 1:], words[:at] + ["a"] + words[at:],
-                    words[:at] + [""] + words[at:],
-                              words[:at] + ["5"] + words[at:], words[:at] + ["Z"] + words[at + 1:],
-                              words[:at] + ["key"] + words[at + 1:], words[:at] + [words[at] + "\n"] + words[at + 1:],
-                              words[:at] + [words[at], words[at]] + words[at + 1:]):
-                    try:
-                        Desk().say(" ".join(other))
-                    except (RollError, LookupError) as error:
-                        self.assertIn(type(error), (NoText, NoBranch, NoRight, NoTable, NoHand, NoNumber, Taken))
-                    else:
-                        self.assertIn(words[0], ("do", "grant", "ask", "prune", "read", "names", "tables", "fork",
-                        "mark",
-                                                 "merge", "strict", "share", "unshare"))
-            self.no_text(desk, [row + " ", " " + row, row + "\n", row + " Z", row.upper(), row.replace(" ", "  "),
-                                row.replace(" ", "\n"), row[1:], row + ")", "(" + row + ")"])
+                ahead, word, rest = words[:at], words[at], words[at + 1:]
+                others = [[], [word, word]] + [[other] for other in OTHERS] + [[other, word] for other in OTHERS]
+                for other in others + [[word + "\n"], [word[:-1]], [word + "a"], [word + "0"], ["0" + word]]:
+                    self.alike(" ".join(ahead + other + rest))
+            for text in [row + " ", " " + row, row + "\n", row + " Z", row.upper(), row.replace(" ", "  "),
+                         row.replace(" ", "\n"), row[1:], row + ")", "(" + row + ")"]:
+                self.assertIsNone(plain_words.desk(text))
+                self.alike(text)
 
     def test_great_rows(self):
         desk = begun()

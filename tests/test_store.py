@@ -41,9 +41,9 @@ def no_branches(store, hand):
     """What is no branch and no mark that the hand sees."""
     every = [(each, name) for each in range(8) for name in ("main", "mine", "yours", "kept", "nowhere")]
     seen = [at[:2] for at in store.names(hand)]
-    odd = [list(at) for at in every[:4]] + [(False, "main"), (0, "main", True), ((0, "main"),), (0,), "main", ("main",
-        0),
-                                           (0, ["main"]), ([0], "main"), (0, "key"), (8, "main")]
+    odd = [list(at) for at in every[:4]] + [
+        (False, "main"), (0, "main", True), ((0, "main"),), (0,), "main", ("main", 0), (0, ["main"]), ([0], "main"),
+        (0, "key"), (8, "main")]
     return [at for at in every if at not in seen] + odd + [thing for thing in ANYTHING if not (
         type(thing) is tuple and thing in seen)]
 

@@ -6,7 +6,7 @@ from forkrolls.errors import NoDeed, NoName, NoPlace, NoQuestion, NoRow, NoText
 from forkrolls.words.texts import (
     deed_text, name_text, place_text, question_text, read_deed, read_name, read_place, read_question, read_row,
     row_text)
-from tests import plain, plain_asks
+from tests import plain_asks, plain_words
 from tests.grids import QNAMES, in_all, made_question, within
 from tests.knots import WRONG_PLACES
 from tests.looms import NO_NAMES
@@ -128,43 +128,59 @@ class Written(Case):
 
 
 class Read(Case):
-    def just(self, read, write, sound, text):
+    def just(self, read, write, plainly, text):
         """Read is just what is so written, of such a thing."""
         try:
             thing = read(text)
         except NoText:
             thing = None
+        self.assertEqual(repr(thing), repr(plainly(text)), text)
         if thing is not None:
-            self.assertTrue(sound(thing), text)
             self.assertEqual(write(thing), text)
         return thing is not None
 
-    def check(self, pairs, read, write, sound):
+    def check(self, pairs, read, write, plainly):
         found = 0
         for _, text in pairs:
+            self.assertTrue(self.just(read, write, plainly, text))
             for other in out_and_more(text):
-                found += self.just(read, write, sound, other)
+                found += self.just(read, write, plainly, other)
         self.assertGreater(found, 5)
 
     def test_one_sign_otherwise(self):
-        self.check(PLACE_TEXTS, read_place, place_text, plain.place)
-        self.check(DEED_TEXTS, read_deed, deed_text, plain_asks.deed)
-        self.check(QUESTION_TEXTS, read_question, question_text, plain_asks.question)
-        self.check(ROW_TEXTS[:5], read_row, row_text, plain_asks.row)
-        self.check(NAME_TEXTS, read_name, name_text, plain.deed_name)
+        self.check(PLACE_TEXTS, read_place, place_text, plain_words.place)
+        self.check(DEED_TEXTS, read_deed, deed_text, plain_words.deed)
+        self.check(QUESTION_TEXTS, read_question, question_text, plain_words.question)
+        self.check(ROW_TEXTS[:5], read_row, row_text, plain_words.row)
+        self.check(NAME_TEXTS, read_name, name_text, plain_words.deed_name)
+
+    def test_two_signs_otherwise(self):
+        chance = Chance(262)
+        for pairs, read, write, plainly in [
+                (PLACE_TEXTS, read_place, place_text, plain_words.place),
+                (DEED_TEXTS, read_deed, deed_text, plain_words.deed),
+                (QUESTION_TEXTS, read_question, question_text, plain_words.question),
+                (ROW_TEXTS[:5], read_row, row_text, plain_words.row),
+                (NAME_TEXTS, read_name, name_text, plain_words.deed_name)]:
+            for _ in range(3000):
+                text = chance.one(pairs)[1]
+                for _ in range(2 + chance.below(2)):
+                    at = chance.below(len(text) + 1)
+                    text = text[:at] + chance.one(["", *FEW_SIGNS]) + text[at + chance.below(2):]
+                self.just(read, write, plainly, text)
 
     def test_each_sign_of_all(self):
         for sign in SIGNS:
-            for text, read, write, sound in [
-                    ("row books 5", read_place, place_text, plain.place),
-                    ("else a 0.main.3 5", read_deed, deed_text, plain_asks.deed),
-                    ("put a 5 0.main.3=x", read_deed, deed_text, plain_asks.deed),
-                    ("(keep (roll a) x)", read_question, question_text, plain_asks.question),
-                    ("x=5,y=y", read_row, row_text, plain_asks.row),
-                    ("a/1.mine.0", read_name, name_text, plain.deed_name)]:
+            for text, read, write, plainly in [
+                    ("row books 5", read_place, place_text, plain_words.place),
+                    ("else a 0.main.3 5", read_deed, deed_text, plain_words.deed),
+                    ("put a 5 0.main.3=x", read_deed, deed_text, plain_words.deed),
+                    ("(keep (roll a) x)", read_question, question_text, plain_words.question),
+                    ("x=5,y=y", read_row, row_text, plain_words.row),
+                    ("a/1.mine.0", read_name, name_text, plain_words.deed_name)]:
                 for at in range(len(text) + 1):
-                    self.just(read, write, sound, text[:at] + sign + text[at:])
-                    self.just(read, write, sound, text[:at] + sign + text[at + 1:])
+                    self.just(read, write, plainly, text[:at] + sign + text[at:])
+                    self.just(read, write, plainly, text[:at] + sign + text[at + 1:])
 
     def test_what_is_not_so_written(self):
         for read, texts in [
