@@ -12,6 +12,11 @@ from tests.test_changes import all_places
 from tests.things import Case, Chance
 
 
+def was_refused(told):
+    """Whether what a day tells is the name of an error: all else that is told begins with a small letter."""
+    return isinstance(told, tuple) and isinstance(told[0], str) and told[0][0].isupper()
+
+
 class Days(Case):
     def look(self, day, questions):
         """All that every hand is told at every branch and mark, as plain stores tell it."""
@@ -96,6 +101,40 @@ class Days(Case):
                     self.tells(sure_and_perhaps(states, question), day.store.ask, 0, at, question)
         self.assertGreater(pruned_some, 60)
 
+    def test_one_pruned_and_one_not(self):
+        """What isn't refused is done to another store, which is never pruned; the two are asked the same."""
+        chance = Chance(204)
+        fewer = 0
+        for _ in range(6):
+            day, other = Day(self, chance), Store()
+            row = day.row
+
+            def both(word, *parts):
+                told = row(word, *parts)
+                if word != "prune" and not was_refused(told):
+                    again = other.many(((word, *parts),))[0]
+                    self.assertEqual(repr(again), repr(told))
+                return told
+
+            day.row = both
+            day.begin()
+            for step in range(40):
+                day.step()
+                if step % 10 == 9:
+                    day.gather()
+                day.row("prune", 0)
+                self.assertEqual(repr(day.store.names(0)), repr(other.names(0)))
+                for hand in HANDS:
+                    for at in [at[:2] for at in other.names(hand)]:
+                        for question in chance.some(QUESTIONS, 12):
+                            self.assertEqual(repr(day.store.ask(hand, at, question, most=10 ** 4)),
+                                             repr(other.ask(hand, at, question, most=10 ** 4)))
+                        for place in chance.some(all_places(day.plain.full), 6):
+                            self.assertEqual(repr(day.store.reading(hand, at, place)),
+                                             repr(other.reading(hand, at, place)))
+            fewer += len(other) - len(day.store)
+        self.assertGreater(fewer, 20)
+
     def test_the_same_done_to_two(self):
         for seed in range(3):
             days = [Day(self, Chance(210 + seed)).begin() for _ in range(2)]
@@ -122,7 +161,7 @@ class Days(Case):
                 day.step()
             again = Day(self, chance).begin()
             for parts, told in rows:
-                if not (isinstance(told, tuple) and told and isinstance(told[0], str) and told[0][0].isupper()):
+                if not was_refused(told):
                     again.row(*parts)
             self.assertEqual(day.store, again.store)
             self.assertNotEqual(day.store, other)
