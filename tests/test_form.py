@@ -89,6 +89,36 @@ BUILTINS = {"len", "range", "enumerate", "zip", "min", "max", "sum", "abs", "sor
 NODES = (ast.AsyncFunctionDef, ast.AsyncFor, ast.AsyncWith, ast.Await, ast.Import, ast.Div)
 
 
+def barred_stars(tree, makers):
+    """The lines at which a star stands in an index, in a set literal, or over a generator: all barred by L7."""
+    found = set()
+    for node in ast.walk(tree):
+        if isinstance(node, ast.Subscript):
+            found |= star_lines(node.slice)
+        if isinstance(node, ast.Set):
+            found |= star_lines(node)
+        if isinstance(node, ast.Starred) and is_generator(node.value, makers):
+            found.add(node.lineno)
+    return sorted(found)
+
+
+def star_lines(tree):
+    return {node.lineno for node in ast.walk(tree) if isinstance(node, ast.Starred) and isinstance(node.ctx, ast.Load)}
+
+
+def is_generator(node, makers):
+    """Whether it is a generator expression, or the call of a function that yields."""
+    if isinstance(node, ast.Call):
+        return getattr(node.func, "id", getattr(node.func, "attr", "")) in makers
+    return isinstance(node, ast.GeneratorExp)
+
+
+def makers_in(trees):
+    """The names of all functions that yield."""
+    return {node.name for tree in trees for node in ast.walk(tree) if isinstance(node, ast.FunctionDef)
+            and any(isinstance(each, (ast.Yield, ast.YieldFrom)) for each in ast.walk(node))}
+
+
 class Interface(unittest.TestCase):
     def test_it_stands_where_it_is_listed(self):
         for module, listed in INTERFACE.items():
@@ -143,6 +173,27 @@ class Form(unittest.TestCase):
                 if isinstance(node, ast.FunctionDef):
                     self.assertLessEqual(node.end_lineno - node.lineno + 1, 40, (path, node.name))
                     self.assertTrue(node.name.startswith("_") or ast.get_docstring(node), (path, node.name))
+
+    def test_stars_stand_where_they_may(self):
+        trees = {path: ast.parse(path.read_text()) for path in FILES}
+        makers = makers_in(trees.values())
+        for path, tree in trees.items():
+            self.assertEqual(barred_stars(tree, makers), [], path)
+
+    def test_barred_stars_are_found(self):
+        maker = "def steps(xs):\n    yield from xs\n"
+        makers = makers_in([ast.parse(maker)])
+        for row in ("d[(*at, 1)] = True", "d[*at, 1] = True", "x = d[(*at, 1)]", "del box.d[(*at, 1)]",
+                    "d[(*at, 1)] += 1", "x = d[k, (*at, 1)]", "x = d[len([*at, 1])]", "x = d[0][(*at, 1)].y",
+                    "x = xs[:len([*at])]", "x = [d[(*at, k)] for k in xs]", "x = {*xs}", "x = k in {(*at, 1)}",
+                    "x = [*(y for y in xs)]", "x = (*steps(xs), 1)", "x = (*box.steps(xs), 1)"):
+            self.assertEqual(barred_stars(ast.parse("x = 1\n" + row), makers), [2], row)
+
+    def test_other_stars_are_let_stand(self):
+        for row in ("k = (*at, 1)\nd[k] = True", "d.pop((*at, 1), None)", "x = (*at, 1) in d", "x = [*xs, 1][0]",
+                    "x = [(*k, d[k]) for k in xs]", "k, *x = d[0]", "x = {(*at, 1): True}", "x = (*d[k], 1)",
+                    "x = (*sorted(xs), 1)", "x = max(*xs)"):
+            self.assertEqual(barred_stars(ast.parse(row), {"steps"}), [], row)
 
     def test_keys_to_sort_by(self):
         for path in FILES:

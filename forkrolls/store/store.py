@@ -136,7 +136,8 @@ class Store:
         self._need_own(hand, at)
         need_hand(other)
         if other != 0 and other != at[0]:
-            self._shared[(*at, other)] = True
+            share = (*at, other)
+            self._shared[share] = True
 
     def unshare(self, hand, at, other):
         """Have the other hand see at no more, unless it is its own."""
